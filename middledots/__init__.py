@@ -1,0 +1,1 @@
+"""Middledots: fields cut into least triangles, told by middles."""

@@ -1,0 +1,99 @@
+"""[1], [2], [3] and [26] for every function: names, lists for tuples, what is handed in, what is told, wrong arguments."""
+
+import copy
+import inspect
+import unittest
+
+from tests.helpers import CALLS, WRONG_OF, function_of, listed, outcome, told
+
+UNFIT = ("error", "Unfit", {})
+
+
+def every_call():
+    """Each function with the names and kinds of its arguments and each of the values for them."""
+    for module, name, told_arguments, values in CALLS:
+        for args in values:
+            yield function_of(module, name), told_arguments, args
+
+
+def kinds_to_list(told_arguments, args, mask):
+    """The arguments with lists for tuples at the depths of mask; a thing, a text, a piece stay as they are."""
+    return [listed(arg, mask) if kind not in ("thing", "text", "piece") else arg
+            for (_, kind), arg in zip(told_arguments, args)]
+
+
+class Interface(unittest.TestCase):
+    def test_each_function_is_defined_in_its_file_with_its_arguments(self):
+        for module, name, told_arguments, _ in CALLS:
+            with self.subTest(module=module, name=name):
+                function = function_of(module, name)
+                self.assertEqual(function.__module__, "middledots." + module)
+                self.assertEqual(list(inspect.signature(function).parameters), [own for own, _ in told_arguments])
+
+
+class Arguments(unittest.TestCase):
+    def test_by_position_and_by_name(self):
+        for function, told_arguments, args in every_call():
+            with self.subTest(function=function.__name__, args=args):
+                names = {name: arg for (name, _), arg in zip(told_arguments, args)}
+                self.assertEqual(outcome(function, *args), outcome(function, **names))
+
+    def test_lists_for_tuples_at_each_depth(self):
+        for function, told_arguments, args in every_call():
+            wanted = outcome(function, *args)
+            for mask in range(8):
+                with self.subTest(function=function.__name__, args=args, mask=mask):
+                    own = kinds_to_list(told_arguments, args, mask)
+                    names = {name: arg for (name, _), arg in zip(told_arguments, own)}
+                    self.assertEqual(outcome(function, *own), wanted)
+                    self.assertEqual(outcome(function, **names), wanted)
+
+    def test_what_is_handed_in_is_left_as_it_was(self):
+        for function, told_arguments, args in every_call():
+            for mask in (0, 7):
+                with self.subTest(function=function.__name__, args=args, mask=mask):
+                    own = kinds_to_list(told_arguments, args, mask)
+                    kept = copy.deepcopy(own)
+                    outcome(function, *own)
+                    self.assertEqual(told(own), told(kept))
+
+    def test_a_told_list_is_a_new_one(self):
+        for function, _, args in every_call():
+            with self.subTest(function=function.__name__, args=args):
+                wanted = outcome(function, *args)
+                if wanted[0] == "value" and wanted[1][0] == "list":
+                    first = function(*args)
+                    self.assertIsNot(first, function(*args))
+                    first.append("more")
+                    first.reverse()
+                    self.assertEqual(outcome(function, *args), wanted)
+
+    def test_no_list_within_what_is_told(self):
+        def parts(value):
+            return [inner for part in value[1] for inner in [part] + parts(part)] if value[0] in ("list", "tuple") else []
+
+        for function, told_arguments, args in every_call():
+            for mask in (0, 7):
+                with self.subTest(function=function.__name__, args=args, mask=mask):
+                    found = outcome(function, *kinds_to_list(told_arguments, args, mask))
+                    values = [found[1]] if found[0] == "value" else list(found[2].values())
+                    within = [inner for value in values for inner in parts(value)]
+                    self.assertNotIn("list", [inner[0] for inner in within])
+
+
+class WrongArguments(unittest.TestCase):
+    def test_unfit_ahead_of_all_for_each_wrong_argument(self):
+        for function, told_arguments, args in every_call():
+            for place, (name, kind) in enumerate(told_arguments):
+                for at, wrong in enumerate(WRONG_OF.get(kind, [])):
+                    own = list(args)
+                    own[place] = wrong
+                    self.assertEqual(outcome(function, *own), UNFIT, (function.__name__, name, at))
+
+    def test_every_kind_but_texts_and_things_is_checked(self):
+        kinds = {kind for _, _, told_arguments, _ in CALLS for _, kind in told_arguments}
+        self.assertEqual(kinds - set(WRONG_OF), {"text", "pieces", "piece", "number", "thing"})
+
+
+if __name__ == "__main__":
+    unittest.main()
