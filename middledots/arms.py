@@ -89,6 +89,13 @@ def steps_apart(arm, other):
     return steps_of(runs_between(arm, other))
 
 
+def arms_along(arm, other):
+    """The WAY from arm to other, of one KIND."""
+    runs = runs_between(arm, other)
+    stops = [taken_off(start, times(number, step)) for start, step, many in runs for number in range(many)]
+    return tuple([signed_arm(stop) for stop in stops] + [other])
+
+
 def arm_between(arm, other, number):
     """The ARM of the WAY from arm to other, of one KIND, that is number steps from arm."""
     return arm_on(runs_between(arm, other), other, number)
@@ -146,11 +153,9 @@ def given_alike(arm, other):
 def way(arm, other):
     """The WAY from arm to other."""
     arm, other = given_alike(arm, other)
-    runs = runs_between(arm, other)
-    if steps_of(runs) >= MOST_ARMS:
+    if steps_apart(arm, other) >= MOST_ARMS:
         raise TooMany()
-    stops = [taken_off(start, times(number, step)) for start, step, many in runs for number in range(many)]
-    return tuple([signed_arm(stop) for stop in stops] + [other])
+    return arms_along(arm, other)
 
 
 def length(arm, other):

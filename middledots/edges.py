@@ -58,14 +58,45 @@ def first_pair(edges):
     return None
 
 
-def check_stand(field, edges):
-    """Crossing(edge, other) if two of edges cross, then Unfit() if one does not lie in field."""
+def check_inside(field, edges):
+    """Unfit() if one of edges does not lie in field."""
+    if not all([lies_among(field, edge) for edge in edges]):
+        raise Unfit()
+
+
+def check_crossing(edges):
+    """Crossing(edge, other) if two of edges cross."""
     pair = first_pair(edges)
     if pair is not None:
         edge, other = pair
         raise Crossing(edge, other)
-    if not all([lies_among(field, edge) for edge in edges]):
-        raise Unfit()
+
+
+def check_middle(field, middle):
+    """NoMiddle(middle) if the pair is no MIDDLE of field."""
+    if not fits_middle(middle) or half_place_among(field, middle) != "inner":
+        raise NoMiddle(middle)
+
+
+def given_edges_of(field, value):
+    """A tuple, maybe (), of EDGES that lie in field."""
+    edges = given_edges(value)
+    check_inside(field, edges)
+    return edges
+
+
+def edges_there(field, middle):
+    """The EDGES at this MIDDLE of field that lie in it, ascending."""
+    sides = sides_of(field)
+    pairs = [(low, taken_off(middle, low)) for low in dots_of(field)]
+    return [(low, high) for low, high in pairs if low < high and is_free(sides, low, high)]
+
+
+def uncrossed(found, edges):
+    """Those EDGES of found that cross none of edges."""
+    for edge in edges:
+        found = [own for own in found if not part_each_other(own, edge)]
+    return found
 
 
 def lies_in(field, edge):
@@ -81,11 +112,8 @@ def edges_in(field):
 def edges_at(field, middle):
     """The set of those of them with this MIDDLE."""
     field, middle = given_field(field), given_pair(middle)
-    if not fits_middle(middle) or half_place_among(field, middle) != "inner":
-        raise NoMiddle(middle)
-    sides = sides_of(field)
-    pairs = [(low, taken_off(middle, low)) for low in dots_of(field)]
-    return tuple([(low, high) for low, high in pairs if low < high and is_free(sides, low, high)])
+    check_middle(field, middle)
+    return tuple(edges_there(field, middle))
 
 
 def crossings(edges):
@@ -108,11 +136,9 @@ def stand_together(field, edges):
 def edges_beside(field, edges):
     """The set of those EDGES that lie in field, rim EDGES apart, and cross none of edges."""
     field, edges = given_field(field), given_edges(edges)
-    check_stand(field, edges)
-    found = edges_among(field)
-    for edge in edges:
-        found = [own for own in found if not part_each_other(own, edge)]
-    return tuple(found)
+    check_crossing(edges)
+    check_inside(field, edges)
+    return tuple(uncrossed(edges_among(field), edges))
 
 
 def most_at(field):

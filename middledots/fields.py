@@ -1,6 +1,6 @@
 """Fields: regions with corners on dots, what lies in them and how much."""
 
-from middledots.dots import added, area_round, edges_on, outer, steps_between, taken_off, times, turn_at
+from middledots.dots import added, area_round, dots_on, edges_on, outer, steps_between, taken_off, times, turn_at
 from middledots.errors import CanNot
 from middledots.given import fits_middle, fits_pair, given, given_dot, given_dots, given_middle
 
@@ -103,6 +103,12 @@ def half_place_among(field, middle):
     return place_among(doubled(field), middle)
 
 
+def dots_round(field):
+    """The rim dots, one after another with field to the left, the least one first."""
+    sides = sides_of(field)
+    return [dot for start, end in sides[1:] + sides[:1] for dot in dots_on(start, end)[:-1]]
+
+
 def rim_round(field):
     """The rim EDGES, side by side."""
     return [own for start, end in sides_of(field) for own in edges_on(start, end)]
@@ -146,6 +152,14 @@ def middles_within(field):
     return [middle for middle in points_above_sides(doubled(field)) if fits_middle(middle) and middle not in rim]
 
 
+def numbers_of(field):
+    """The doubled area, and how many inner dots, rim dots and MIDDLES there are."""
+    area = area_round(field)
+    rim = sum([steps_between(start, end) for start, end in sides_of(field)])
+    # By the guarantees of [6] these two tell the others.
+    return (area, (area - rim + 2) // 2, rim, (3 * area - rim) // 2)
+
+
 def place_of(field, dot):
     """Where dot lies: "inner", "rim" or "out"."""
     return place_among(given_field(field), given_dot(dot))
@@ -183,8 +197,4 @@ def middles(field):
 
 def numbers(field):
     """The quadruple of the doubled area, and of how many inner dots, rim dots and MIDDLES there are."""
-    field = given_field(field)
-    area = area_round(field)
-    rim = sum([steps_between(start, end) for start, end in sides_of(field)])
-    # By the guarantees of [6] these two tell the others.
-    return (area, (area - rim + 2) // 2, rim, (3 * area - rim) // 2)
+    return numbers_of(given_field(field))

@@ -1,6 +1,5 @@
 """What the tests share: values of every kind, wrong ones, fields that they make, and ways of reckoning of their own."""
 
-import importlib
 import random
 from fractions import Fraction
 from math import gcd
@@ -12,6 +11,10 @@ SECTIONS = {
     "section_06": "arms",
     "section_07": "halves",
     "section_08": "edges",
+    "section_09": "cuts",
+    "section_10": "allcuts",
+    "section_11": "counting",
+    "section_12": "turns",
 }
 
 
@@ -78,88 +81,7 @@ def in_tuples(wrong, good):
     return outer + [(part,) for part in wrong] + [(good, part) for part in wrong] + [[part, good] for part in wrong]
 
 
-WRONG_OF = {
-    "dot": WRONG_PAIRS,
-    "pair": WRONG_PAIRS,
-    "arm": WRONG_ARMS,
-    "middle": WRONG_MIDDLES,
-    "edge": WRONG_EDGES,
-    "count": WRONG_COUNTS,
-    "field": WRONG_FIELDS,
-    "dots": in_tuples(WRONG_PAIRS, (0, 1)),
-    "edges": in_tuples(WRONG_EDGES, ((0, 0), (1, 0))),
-    "arms": in_tuples(WRONG_ARMS, (1, 0)) + [(), []],
-}
-
-
-# Calls of every function: its module, its name, its arguments with their kinds, and values for them. Some of the
-# values bring the later errors, so that a wrong argument beside them shows which error is first.
-
 ELL = ((0, 0), (2, 0), (2, 1), (1, 1), (1, 2), (0, 2))
-FLAT, STEEP, AFAR = ((0, 0), (2, 1)), ((1, 0), (1, 1)), ((7, 7), (8, 9))
-
-CALLS = [
-    ("signs", "pieces", [("text", "text")], [("cut 0\n\nplan # x",), ("A",), ("",)]),
-    ("signs", "text_of", [("pieces", "pieces")], [([("cut", 0), ("0", 0), ("plan", 2)],), ([],)]),
-    ("signs", "number_of", [("piece", "piece")], [("07",), ("-12",)]),
-    ("signs", "piece_of", [("number", "number")], [(-7,), (0,)]),
-    ("dots", "is_dot", [("thing", "thing")], [((1, 2),), (5,)]),
-    ("dots", "is_arm", [("thing", "thing")], [((1, 2),), ((2, 2),)]),
-    ("dots", "is_edge", [("thing", "thing")], [(FLAT,), (5,)]),
-    ("dots", "can_be_middle", [("thing", "thing")], [((1, 2),), ((2, 2),)]),
-    ("dots", "edge", [("dot", "dot"), ("other", "dot")], [((2, 1), (0, 0)), ((0, 0), (2, 2)), ((0, 0), (0, 0))]),
-    ("dots", "middle_of", [("edge", "edge")], [(FLAT,)]),
-    ("dots", "arm_of", [("edge", "edge")], [(FLAT,)]),
-    ("dots", "kind_of", [("middle", "middle")], [((3, 4),)]),
-    ("dots", "square_of", [("arm", "arm")], [((2, -1),)]),
-    ("dots", "edge_at", [("middle", "middle"), ("arm", "arm")], [((3, 2), (1, -2)), ((3, 2), (0, 1))]),
-    ("dots", "cross", [("edge", "edge"), ("other", "edge")], [(FLAT, STEEP), (FLAT, AFAR)]),
-    ("dots", "side_of", [("edge", "edge"), ("dot", "dot")], [(FLAT, (1, 1))]),
-    ("dots", "area_of", [("dots", "dots")], [(((0, 0), (2, 0), (2, 1)),), ((),)]),
-    ("dots", "edges_between", [("dot", "dot"), ("other", "dot")], [((3, 3), (0, 0)), ((0, 0), (9000, 0))]),
-    ("fields", "is_field", [("thing", "thing")], [(ELL,), (5,)]),
-    ("fields", "field_of", [("dots", "dots")], [(ELL[::-1],), ((),), (((0, 0), (1, 0)),)]),
-    ("fields", "place_of", [("field", "field"), ("dot", "dot")], [(ELL, (1, 1)), (ELL, (9, 9))]),
-    ("fields", "half_place_of", [("field", "field"), ("middle", "middle")], [(ELL, (1, 1)), (ELL, (9, 9))]),
-    ("fields", "inner_dots", [("field", "field")], [(((0, 0), (9, 0), (0, 9)),)]),
-    ("fields", "rim_dots", [("field", "field")], [(ELL,)]),
-    ("fields", "all_dots", [("field", "field")], [(ELL,)]),
-    ("fields", "rim_edges", [("field", "field")], [(ELL,)]),
-    ("fields", "middles", [("field", "field")], [(ELL,)]),
-    ("fields", "numbers", [("field", "field")], [(ELL,)]),
-    ("arms", "are_neighbours", [("arm", "arm"), ("other", "arm")], [((1, 0), (5, 2)), ((1, 0), (0, 1))]),
-    ("arms", "neighbours", [("arm", "arm"), ("most", "count")], [((2, 1), 4), ((1, 0), 10 ** 6), ((2, 1), 0)]),
-    ("arms", "elder", [("arm", "arm")], [((5, 4),), ((1, 0),)]),
-    ("arms", "root_of", [("arm", "arm")], [((5, 4),)]),
-    ("arms", "depth", [("arm", "arm")], [((5, 4),)]),
-    ("arms", "way", [("arm", "arm"), ("other", "arm")], [((5, 4), (3, -2)), ((5, 4), (1, 1)), ((1, 0), (9999, 9998))]),
-    ("arms", "length", [("arm", "arm"), ("other", "arm")], [((5, 4), (3, -2)), ((5, 4), (1, 1))]),
-    ("arms", "at_step", [("arm", "arm"), ("other", "arm"), ("number", "count")],
-     [((5, 4), (3, -2), 1), ((5, 4), (3, -2), 4), ((5, 4), (1, 1), 0)]),
-    ("halves", "base_of", [("arm", "arm"), ("other", "arm")], [((5, 4), (3, 2)), ((5, 4), (1, 0))]),
-    ("halves", "is_in_half", [("arm", "arm"), ("other", "arm"), ("third", "arm")],
-     [((5, 4), (3, 2), (7, 4)), ((5, 4), (1, 0), (1, 0)), ((5, 4), (3, 2), (1, 1))]),
-    ("halves", "many_in_half", [("arm", "arm"), ("other", "arm"), ("arms", "arms")],
-     [((1, 0), (3, 2), ((5, 4), (1, 0), (1, 0))), ((5, 4), (1, 0), ((1, 0),)), ((5, 4), (3, 2), ((1, 0), (1, 1)))]),
-    ("halves", "sum_of_ways", [("arms", "arms"), ("arm", "arm")], [(((5, 4), (1, 0)), (3, 2)), (((5, 4), (1, 1)), (3, 2))]),
-    ("halves", "median", [("arms", "arms")], [(((5, 4), (3, 2), (3, -2)),), (((5, 4), (3, 2)),), (((5, 4), (1, 1), (1, 1)),)]),
-    ("halves", "halves", [("edge", "edge"), ("other", "edge")],
-     [(((0, 0), (1, 1)), ((0, 1), (2, 0))), (FLAT, STEEP), (FLAT, AFAR)]),
-    ("edges", "lies_in", [("field", "field"), ("edge", "edge")], [(ELL, FLAT), (ELL, AFAR)]),
-    ("edges", "edges_in", [("field", "field")], [(ELL,)]),
-    ("edges", "edges_at", [("field", "field"), ("middle", "pair")], [(ELL, (2, 1)), (ELL, (3, 3)), (ELL, (2, 2))]),
-    ("edges", "crossings", [("edges", "edges")], [((FLAT, STEEP, AFAR, FLAT),), ((),)]),
-    ("edges", "first_crossing", [("edges", "edges")], [((FLAT, STEEP, AFAR, FLAT),), ((),)]),
-    ("edges", "stand_together", [("field", "field"), ("edges", "edges")], [(ELL, (FLAT,)), (ELL, (FLAT, STEEP)), (ELL, (AFAR,))]),
-    ("edges", "edges_beside", [("field", "field"), ("edges", "edges")],
-     [(ELL, (FLAT,)), (ELL, (STEEP, FLAT, AFAR)), (ELL, (AFAR,)), (ELL, ())]),
-    ("edges", "most_at", [("field", "field")], [(ELL,)]),
-]
-
-
-def function_of(module, name):
-    """The function of this name, from the module that must have it."""
-    return getattr(importlib.import_module("middledots." + module), name)
 
 
 # Ways of reckoning of the tests' own.

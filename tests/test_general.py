@@ -4,7 +4,8 @@ import copy
 import inspect
 import unittest
 
-from tests.helpers import CALLS, WRONG_OF, function_of, listed, outcome, told
+from tests.calls import CALLS, GREAT, WRONG_OF, function_of
+from tests.helpers import listed, outcome, told
 
 UNFIT = ("error", "Unfit", {})
 
@@ -41,7 +42,7 @@ class Arguments(unittest.TestCase):
     def test_lists_for_tuples_at_each_depth(self):
         for function, told_arguments, args in every_call():
             wanted = outcome(function, *args)
-            for mask in range(8):
+            for mask in range(16) if GREAT not in args else (15,):
                 with self.subTest(function=function.__name__, args=args, mask=mask):
                     own = kinds_to_list(told_arguments, args, mask)
                     names = {name: arg for (name, _), arg in zip(told_arguments, own)}
@@ -50,7 +51,7 @@ class Arguments(unittest.TestCase):
 
     def test_what_is_handed_in_is_left_as_it_was(self):
         for function, told_arguments, args in every_call():
-            for mask in (0, 7):
+            for mask in (0, 15):
                 with self.subTest(function=function.__name__, args=args, mask=mask):
                     own = kinds_to_list(told_arguments, args, mask)
                     kept = copy.deepcopy(own)
@@ -73,7 +74,7 @@ class Arguments(unittest.TestCase):
             return [inner for part in value[1] for inner in [part] + parts(part)] if value[0] in ("list", "tuple") else []
 
         for function, told_arguments, args in every_call():
-            for mask in (0, 7):
+            for mask in (0, 15):
                 with self.subTest(function=function.__name__, args=args, mask=mask):
                     found = outcome(function, *kinds_to_list(told_arguments, args, mask))
                     values = [found[1]] if found[0] == "value" else list(found[2].values())

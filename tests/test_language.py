@@ -16,6 +16,8 @@ METHODS = set("""append clear copy count endswith extend find get index insert i
                  items join keys ljust lower lstrip partition pop remove replace reverse rfind rjust rpartition rsplit rstrip
                  setdefault split splitlines startswith strip update upper values zfill bit_length removeprefix removesuffix
                  add discard""".split())
+OWN_METHODS = {"Net": set("tie untie thirds far_pair can_turn turn cut turn_signs covers triangles".split()),
+               "Rests": set("lie dots_near steps_from coming".split())}
 BARRED = {"register", "mro", "elements", "open", "input", "law", "version_info", "with_traceback", "add_note"}
 STATEMENTS = (ast.FunctionDef, ast.ClassDef, ast.Assign, ast.AugAssign, ast.Return, ast.If, ast.While, ast.For, ast.Break,
               ast.Continue, ast.Pass, ast.Raise, ast.Assert, ast.Delete, ast.Expr, ast.Try, ast.ImportFrom)
@@ -134,7 +136,23 @@ class Language(unittest.TestCase):
                 if isinstance(node, ast.Name) and node.id in dir(builtins):
                     self.assertIn(node.id, BUILTINS, (path, node.lineno))
                 if isinstance(node, ast.Call) and isinstance(node.func, ast.Attribute):
-                    self.assertIn(node.func.attr, METHODS, (path, node.lineno))
+                    self.assertIn(node.func.attr, METHODS.union(*OWN_METHODS.values()), (path, node.lineno))
+
+    def test_methods_and_attributes_of_classes(self):
+        found = {}
+        for path in FILES:
+            for node in tree_of(path).body:
+                if isinstance(node, ast.ClassDef) and path.stem != "errors":
+                    parts = [part for part in node.body if isinstance(part, ast.FunctionDef)]
+                    names = [part.name for part in parts]
+                    self.assertTrue(all(ast.get_docstring(part) or part.name == "__init__" for part in parts), node.name)
+                    self.assertEqual(len(names), len(set(names)), node.name)
+                    kept = {part.attr for part in ast.walk(node) if isinstance(part, ast.Attribute)
+                            and isinstance(part.ctx, ast.Store)}
+                    self.assertFalse(kept & (set(names) | METHODS | {"sort", "args", "encode", "decode", "format"}), node.name)
+                    self.assertEqual(kept & BARRED, set())
+                    found[node.name] = set(names) - {"__init__"}
+        self.assertEqual(found, OWN_METHODS)
 
     def test_everything_is_told_by_a_docstring(self):
         for path in FILES:

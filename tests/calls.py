@@ -1,0 +1,148 @@
+"""Calls of every function, and wrong values for each kind of argument."""
+
+import importlib
+
+from tests.cutting import own_completed
+from tests.helpers import ELL, WRONG, WRONG_ARMS, WRONG_COUNTS, WRONG_EDGES, WRONG_FIELDS, WRONG_MIDDLES, WRONG_PAIRS, in_tuples
+
+FLAT, STEEP, AFAR = ((0, 0), (2, 1)), ((1, 0), (1, 1)), ((7, 7), (8, 9))
+# CUTS of ELL, the triangles of the first one, the REST of it; a FIELD with too many CUTS and RESTS.
+CUT = (((0, 0), (1, 1)), ((0, 0), (1, 2)), ((0, 0), (2, 1)), ((0, 1), (1, 2)), ((1, 0), (2, 1)))
+MILD = (((0, 0), (1, 1)), ((0, 1), (1, 1)), ((0, 1), (1, 2)), ((1, 0), (1, 1)), ((1, 0), (2, 1)))
+LAST = (((0, 1), (1, 0)), ((0, 1), (1, 1)), ((0, 2), (1, 1)), ((1, 0), (1, 1)), ((1, 1), (2, 0)))
+PARTS = (((0, 0), (0, 1), (1, 2)), ((0, 0), (1, 0), (2, 1)), ((0, 0), (1, 1), (1, 2)), ((0, 0), (1, 1), (2, 1)),
+         ((0, 1), (0, 2), (1, 2)), ((1, 0), (2, 0), (2, 1)))
+REST = ((0, 0), (1, 0), (2, 0), (2, 1), (1, 1), (1, 2), (0, 2), (0, 1))
+GREAT = ((0, 0), (6, 0), (6, 5), (0, 5))
+
+OUTSIDE = [AFAR, ((-1, 0), (0, 0)), ((0, -1), (1, 0)), ((6, 5), (7, 6))]
+WRONG_CUTS = in_tuples(WRONG_EDGES + OUTSIDE, CUT[0]) + [CUT[:-1] + (part,) for part in WRONG_EDGES + OUTSIDE + [CUT[0], FLAT]] + [
+    CUT[1:], CUT[::-1], CUT + CUT, (), (CUT,), CUT[:-1], LAST[:3] + CUT[3:], CUT + (((0, 0), (0, 1)),), ELL, PARTS]
+WRONG_TRIANGLES = WRONG_PAIRS + [part[::-1] for part in PARTS] + [PARTS[0][:2], PARTS[0] + ((9, 9),), ((0, 0), (1, 0), (2, 0)), PARTS,
+                                 ((0, 0), (1, 0), (2, 2)), ((0, 0), (0, 0), (1, 1)), ((0, 0), (1, 0), (True, 1)), (1, 2, 3), "abc"]
+WRONG_RESTS = [own for own in WRONG_FIELDS if own != ((0, 0), (1, 0), (2, 0), (0, 1))] + [ELL, REST[::-1], REST[1:] + REST[:1]]
+
+
+WRONG_OF = {
+    "dot": WRONG_PAIRS,
+    "pair": WRONG_PAIRS,
+    "arm": WRONG_ARMS,
+    "middle": WRONG_MIDDLES,
+    "edge": WRONG_EDGES,
+    "count": WRONG_COUNTS,
+    "field": WRONG_FIELDS,
+    "dots": in_tuples(WRONG_PAIRS, (0, 1)),
+    "edges": in_tuples(WRONG_EDGES, ((0, 0), (1, 0))),
+    "arms": in_tuples(WRONG_ARMS, (1, 0)) + [(), []],
+    "inside": in_tuples(WRONG_EDGES + OUTSIDE, CUT[0]),
+    "cut": WRONG_CUTS,
+    "plan": in_tuples(WRONG_PAIRS, (1, 1)),
+    "triangle": WRONG_TRIANGLES,
+    "triangles": in_tuples(WRONG_TRIANGLES, PARTS[1]) + [PARTS[::-1], PARTS + PARTS[-1:], PARTS[:1] + PARTS],
+    "rest": WRONG_RESTS,
+}
+
+
+# Calls of every function: its module, its name, its arguments with their kinds, and values for them. Some of the
+# values bring the later errors, so that a wrong argument beside them shows which error is first.
+
+CALLS = [
+    ("signs", "pieces", [("text", "text")], [("cut 0\n\nplan # x",), ("A",), ("",)]),
+    ("signs", "text_of", [("pieces", "pieces")], [([("cut", 0), ("0", 0), ("plan", 2)],), ([],)]),
+    ("signs", "number_of", [("piece", "piece")], [("07",), ("-12",)]),
+    ("signs", "piece_of", [("number", "number")], [(-7,), (0,)]),
+    ("dots", "is_dot", [("thing", "thing")], [((1, 2),), (5,)]),
+    ("dots", "is_arm", [("thing", "thing")], [((1, 2),), ((2, 2),)]),
+    ("dots", "is_edge", [("thing", "thing")], [(FLAT,), (5,)]),
+    ("dots", "can_be_middle", [("thing", "thing")], [((1, 2),), ((2, 2),)]),
+    ("dots", "edge", [("dot", "dot"), ("other", "dot")], [((2, 1), (0, 0)), ((0, 0), (2, 2)), ((0, 0), (0, 0))]),
+    ("dots", "middle_of", [("edge", "edge")], [(FLAT,)]),
+    ("dots", "arm_of", [("edge", "edge")], [(FLAT,)]),
+    ("dots", "kind_of", [("middle", "middle")], [((3, 4),)]),
+    ("dots", "square_of", [("arm", "arm")], [((2, -1),)]),
+    ("dots", "edge_at", [("middle", "middle"), ("arm", "arm")], [((3, 2), (1, -2)), ((3, 2), (0, 1))]),
+    ("dots", "cross", [("edge", "edge"), ("other", "edge")], [(FLAT, STEEP), (FLAT, AFAR)]),
+    ("dots", "side_of", [("edge", "edge"), ("dot", "dot")], [(FLAT, (1, 1))]),
+    ("dots", "area_of", [("dots", "dots")], [(((0, 0), (2, 0), (2, 1)),), ((),)]),
+    ("dots", "edges_between", [("dot", "dot"), ("other", "dot")], [((3, 3), (0, 0)), ((0, 0), (9000, 0))]),
+    ("fields", "is_field", [("thing", "thing")], [(ELL,), (5,)]),
+    ("fields", "field_of", [("dots", "dots")], [(ELL[::-1],), ((),), (((0, 0), (1, 0)),)]),
+    ("fields", "place_of", [("field", "field"), ("dot", "dot")], [(ELL, (1, 1)), (ELL, (9, 9))]),
+    ("fields", "half_place_of", [("field", "field"), ("middle", "middle")], [(ELL, (1, 1)), (ELL, (9, 9))]),
+    ("fields", "inner_dots", [("field", "field")], [(((0, 0), (9, 0), (0, 9)),)]),
+    ("fields", "rim_dots", [("field", "field")], [(ELL,)]),
+    ("fields", "all_dots", [("field", "field")], [(ELL,)]),
+    ("fields", "rim_edges", [("field", "field")], [(ELL,)]),
+    ("fields", "middles", [("field", "field")], [(ELL,)]),
+    ("fields", "numbers", [("field", "field")], [(ELL,)]),
+    ("arms", "are_neighbours", [("arm", "arm"), ("other", "arm")], [((1, 0), (5, 2)), ((1, 0), (0, 1))]),
+    ("arms", "neighbours", [("arm", "arm"), ("most", "count")], [((2, 1), 4), ((1, 0), 10 ** 6), ((2, 1), 0)]),
+    ("arms", "elder", [("arm", "arm")], [((5, 4),), ((1, 0),)]),
+    ("arms", "root_of", [("arm", "arm")], [((5, 4),)]),
+    ("arms", "depth", [("arm", "arm")], [((5, 4),)]),
+    ("arms", "way", [("arm", "arm"), ("other", "arm")], [((5, 4), (3, -2)), ((5, 4), (1, 1)), ((1, 0), (9999, 9998))]),
+    ("arms", "length", [("arm", "arm"), ("other", "arm")], [((5, 4), (3, -2)), ((5, 4), (1, 1))]),
+    ("arms", "at_step", [("arm", "arm"), ("other", "arm"), ("number", "count")],
+     [((5, 4), (3, -2), 1), ((5, 4), (3, -2), 4), ((5, 4), (1, 1), 0)]),
+    ("halves", "base_of", [("arm", "arm"), ("other", "arm")], [((5, 4), (3, 2)), ((5, 4), (1, 0))]),
+    ("halves", "is_in_half", [("arm", "arm"), ("other", "arm"), ("third", "arm")],
+     [((5, 4), (3, 2), (7, 4)), ((5, 4), (1, 0), (1, 0)), ((5, 4), (3, 2), (1, 1))]),
+    ("halves", "many_in_half", [("arm", "arm"), ("other", "arm"), ("arms", "arms")],
+     [((1, 0), (3, 2), ((5, 4), (1, 0), (1, 0))), ((5, 4), (1, 0), ((1, 0),)), ((5, 4), (3, 2), ((1, 0), (1, 1)))]),
+    ("halves", "sum_of_ways", [("arms", "arms"), ("arm", "arm")], [(((5, 4), (1, 0)), (3, 2)), (((5, 4), (1, 1)), (3, 2))]),
+    ("halves", "median", [("arms", "arms")], [(((5, 4), (3, 2), (3, -2)),), (((5, 4), (3, 2)),), (((5, 4), (1, 1), (1, 1)),)]),
+    ("halves", "halves", [("edge", "edge"), ("other", "edge")],
+     [(((0, 0), (1, 1)), ((0, 1), (2, 0))), (FLAT, STEEP), (FLAT, AFAR)]),
+    ("edges", "lies_in", [("field", "field"), ("edge", "edge")], [(ELL, FLAT), (ELL, AFAR)]),
+    ("edges", "edges_in", [("field", "field")], [(ELL,)]),
+    ("edges", "edges_at", [("field", "field"), ("middle", "pair")], [(ELL, (2, 1)), (ELL, (3, 3)), (ELL, (2, 2))]),
+    ("edges", "crossings", [("edges", "edges")], [((FLAT, STEEP, AFAR, FLAT),), ((),)]),
+    ("edges", "first_crossing", [("edges", "edges")], [((FLAT, STEEP, AFAR, FLAT),), ((),)]),
+    ("edges", "stand_together", [("field", "field"), ("edges", "edges")], [(ELL, (FLAT,)), (ELL, (FLAT, STEEP)), (ELL, (AFAR,))]),
+    ("edges", "edges_beside", [("field", "field"), ("edges", "edges")],
+     [(ELL, (FLAT,)), (ELL, (STEEP, FLAT, AFAR)), (ELL, (AFAR,)), (ELL, ())]),
+    ("edges", "most_at", [("field", "field")], [(ELL,)]),
+    ("cuts", "is_cut", [("field", "field"), ("thing", "thing")], [(ELL, CUT), (ELL, CUT[1:])]),
+    ("cuts", "completed", [("field", "field"), ("edges", "inside")],
+     [(ELL, (STEEP, ((0, 0), (0, 1)), STEEP)), (ELL, (STEEP, FLAT)), (GREAT, ())]),
+    ("cuts", "edge_in", [("field", "field"), ("cut", "cut"), ("middle", "pair")], [(ELL, CUT, (2, 1)), (ELL, CUT, (3, 3))]),
+    ("cuts", "triangles", [("field", "field"), ("cut", "cut")], [(ELL, CUT), (ELL, MILD)]),
+    ("cuts", "far_dots", [("field", "field"), ("cut", "cut"), ("middle", "pair")], [(ELL, CUT, (2, 1)), (ELL, CUT, (2, 2))]),
+    ("cuts", "three_sides", [("triangle", "triangle")], [(PARTS[1],)]),
+    ("cuts", "cut_of", [("field", "field"), ("triangles", "triangles")], [(ELL, PARTS), (ELL, PARTS[1:]), (ELL, ())]),
+    ("allcuts", "all_cuts", [("field", "field"), ("edges", "inside")], [(ELL, (STEEP,)), (ELL, (FLAT, STEEP)), (GREAT, ())]),
+    ("allcuts", "cuts_out_of", [("field", "field"), ("edges", "inside")], [(ELL, CUT + MILD), (ELL, ()), (ELL, CUT)]),
+    ("allcuts", "many_beside", [("field", "field"), ("edges", "inside")], [(ELL, (STEEP,)), (ELL, (FLAT, STEEP)), (GREAT, ())]),
+    ("allcuts", "cut_by_digits", [("field", "field"), ("edges", "inside"), ("number", "count")],
+     [(ELL, (STEEP,), 10 ** 30 + 3), (ELL, (FLAT, STEEP), 0), (GREAT, (), 77)]),
+    ("allcuts", "digits_of", [("field", "field"), ("edges", "inside"), ("cut", "cut")],
+     [(ELL, (STEEP,), MILD), (ELL, (FLAT, STEEP), CUT), (ELL, (STEEP,), CUT)]),
+    ("counting", "is_rest", [("thing", "thing")], [(REST,), (ELL,), (5,)]),
+    ("counting", "rest_of", [("field", "field")], [(ELL,)]),
+    ("counting", "base_edge", [("rest", "rest")], [(REST,)]),
+    ("counting", "tips", [("rest", "rest")], [(REST,)]),
+    ("counting", "rests_behind", [("rest", "rest"), ("dot", "dot")], [(REST, (1, 1)), (REST, (2, 0))]),
+    ("counting", "many_cuts", [("field", "field"), ("edges", "inside")], [(ELL, (STEEP,)), (ELL, (FLAT, STEEP)), (GREAT, ())]),
+    ("counting", "many_rests", [("field", "field"), ("edges", "inside")], [(ELL, (STEEP,)), (ELL, (FLAT, STEEP)), (GREAT, ())]),
+    ("counting", "counts_at", [("field", "field"), ("middle", "pair")], [(ELL, (2, 1)), (ELL, (3, 3)), (GREAT, (1, 1)), (GREAT, (0, 1))]),
+    ("counting", "cut_number", [("field", "field"), ("cut", "cut")], [(ELL, CUT), (ELL, LAST), (GREAT, own_completed(GREAT))]),
+    ("counting", "cut_by_number", [("field", "field"), ("number", "count")], [(ELL, 3), (ELL, 10 ** 9), (GREAT, 0)]),
+    ("turns", "new_edge", [("field", "field"), ("cut", "cut"), ("middle", "pair")],
+     [(ELL, CUT, (2, 1)), (ELL, CUT, (3, 3)), (ELL, CUT, (1, 1))]),
+    ("turns", "can_turn", [("field", "field"), ("cut", "cut"), ("middle", "pair")], [(ELL, CUT, (2, 1)), (ELL, CUT, (3, 3))]),
+    ("turns", "turns", [("field", "field"), ("cut", "cut")], [(ELL, CUT), (ELL, LAST)]),
+    ("turns", "turned", [("field", "field"), ("cut", "cut"), ("middle", "pair")],
+     [(ELL, CUT, (2, 1)), (ELL, CUT, (3, 3)), (ELL, CUT, (1, 1))]),
+    ("turns", "behind", [("field", "field"), ("cut", "cut"), ("plan", "plan")], [(ELL, CUT, ((2, 1), (1, 2))), (ELL, CUT, ((2, 2),))]),
+    ("turns", "cuts_along", [("field", "field"), ("cut", "cut"), ("plan", "plan")],
+     [(ELL, CUT, ((2, 1), (1, 2))), (ELL, CUT, ((2, 2),)), (ELL, CUT, ())]),
+    ("turns", "is_turned_by", [("field", "field"), ("cut", "cut"), ("thing", "thing")], [(ELL, CUT, ((2, 1), (1, 2))), (ELL, CUT, 5)]),
+    ("turns", "undone", [("plan", "plan")], [(((2, 1), (1, 1)),), ((),)]),
+]
+
+
+def function_of(module, name):
+    """The function of this name, from the module that must have it."""
+    return getattr(importlib.import_module("middledots." + module), name)
+
+
