@@ -14,6 +14,7 @@ PARTS = (((0, 0), (0, 1), (1, 2)), ((0, 0), (1, 0), (2, 1)), ((0, 0), (1, 1), (1
          ((0, 1), (0, 2), (1, 2)), ((1, 0), (2, 0), (2, 1)))
 REST = ((0, 0), (1, 0), (2, 0), (2, 1), (1, 1), (1, 2), (0, 2), (0, 1))
 GREAT = ((0, 0), (6, 0), (6, 5), (0, 5))
+ROW, ROW_BACK = ("below", "below", "above"), ("above", "below", "below")
 
 OUTSIDE = [AFAR, ((-1, 0), (0, 0)), ((0, -1), (1, 0)), ((6, 5), (7, 6))]
 WRONG_CUTS = in_tuples(WRONG_EDGES + OUTSIDE, CUT[0]) + [CUT[:-1] + (part,) for part in WRONG_EDGES + OUTSIDE + [CUT[0], FLAT]] + [
@@ -21,6 +22,8 @@ WRONG_CUTS = in_tuples(WRONG_EDGES + OUTSIDE, CUT[0]) + [CUT[:-1] + (part,) for 
 WRONG_TRIANGLES = WRONG_PAIRS + [part[::-1] for part in PARTS] + [PARTS[0][:2], PARTS[0] + ((9, 9),), ((0, 0), (1, 0), (2, 0)), PARTS,
                                  ((0, 0), (1, 0), (2, 2)), ((0, 0), (0, 0), (1, 1)), ((0, 0), (1, 0), (True, 1)), (1, 2, 3), "abc"]
 WRONG_RESTS = [own for own in WRONG_FIELDS if own != ((0, 0), (1, 0), (2, 0), (0, 1))] + [ELL, REST[::-1], REST[1:] + REST[:1]]
+WRONG_STRIPS = WRONG_PAIRS + [(0, 1), (1, 0), (-1, 2), (2, -5)]
+WRONG_ROWS = WRONG + [7, (), [], ("below",), ("above", "above"), ROW + ("",), ROW + (None,), ROW + (True,), (ROW,), "below above"]
 
 
 WRONG_OF = {
@@ -36,10 +39,15 @@ WRONG_OF = {
     "arms": in_tuples(WRONG_ARMS, (1, 0)) + [(), []],
     "inside": in_tuples(WRONG_EDGES + OUTSIDE, CUT[0]),
     "cut": WRONG_CUTS,
+    "cuts": in_tuples(WRONG_CUTS, CUT) + [(CUT, MILD, part) for part in WRONG_CUTS] + [(), (CUT, MILD), [CUT] * 4],
     "plan": in_tuples(WRONG_PAIRS, (1, 1)),
+    "row plan": in_tuples(WRONG_MIDDLES, (1, 1)),
     "triangle": WRONG_TRIANGLES,
     "triangles": in_tuples(WRONG_TRIANGLES, PARTS[1]) + [PARTS[::-1], PARTS + PARTS[-1:], PARTS[:1] + PARTS],
     "rest": WRONG_RESTS,
+    "strip": WRONG_STRIPS,
+    "row": WRONG_ROWS,
+    "rows": in_tuples(WRONG_ROWS, ROW) + [(ROW, ROW, part) for part in WRONG_ROWS] + [(), (ROW, ROW_BACK), (ROW, ROW, ROW + ROW)],
 }
 
 
@@ -138,6 +146,45 @@ CALLS = [
      [(ELL, CUT, ((2, 1), (1, 2))), (ELL, CUT, ((2, 2),)), (ELL, CUT, ())]),
     ("turns", "is_turned_by", [("field", "field"), ("cut", "cut"), ("thing", "thing")], [(ELL, CUT, ((2, 1), (1, 2))), (ELL, CUT, 5)]),
     ("turns", "undone", [("plan", "plan")], [(((2, 1), (1, 1)),), ((),)]),
+    ("fewest", "fewest", [("field", "field"), ("cut", "cut"), ("other", "cut")], [(ELL, CUT, LAST), (ELL, CUT, CUT)]),
+    ("fewest", "ways", [("field", "field"), ("cut", "cut"), ("other", "cut")], [(ELL, CUT, LAST), (ELL, CUT, CUT)]),
+    ("fewest", "shares", [("field", "field"), ("cut", "cut"), ("other", "cut")], [(ELL, CUT, LAST), (ELL, CUT, CUT)]),
+    ("fewest", "plan", [("field", "field"), ("cut", "cut"), ("other", "cut")], [(ELL, CUT, LAST), (ELL, CUT, CUT)]),
+    ("fewest", "is_plan", [("field", "field"), ("cut", "cut"), ("other", "cut"), ("thing", "thing")],
+     [(ELL, CUT, MILD, ((2, 1), (1, 2))), (ELL, CUT, LAST, 5)]),
+    ("fewest", "first_turns", [("field", "field"), ("cut", "cut"), ("other", "cut")], [(ELL, CUT, LAST), (ELL, CUT, CUT)]),
+    ("fewest", "longest_unlike", [("field", "field"), ("cut", "cut"), ("other", "cut")], [(ELL, CUT, LAST), (ELL, CUT, CUT)]),
+    ("middles", "median_cut", [("field", "field"), ("cuts", "cuts")], [(ELL, (CUT, LAST, MILD)), (ELL, (CUT,))]),
+    ("middles", "is_middle", [("field", "field"), ("cuts", "cuts"), ("thing", "thing")],
+     [(ELL, (CUT, LAST, MILD), MILD), (ELL, (CUT,), None)]),
+    ("middles", "majority", [("field", "field"), ("cuts", "cuts")], [(ELL, (CUT, LAST, MILD)), (ELL, (CUT,))]),
+    ("middles", "sum_to", [("field", "field"), ("cut", "cut"), ("cuts", "cuts")], [(ELL, LAST, (CUT, LAST, MILD))]),
+    ("middles", "is_between", [("field", "field"), ("cut", "cut"), ("other", "cut"), ("thing", "thing")],
+     [(ELL, CUT, LAST, MILD), (ELL, CUT, MILD, LAST), (ELL, CUT, LAST, None)]),
+    ("middles", "between", [("field", "field"), ("cut", "cut"), ("other", "cut")], [(ELL, CUT, LAST), (ELL, CUT, CUT)]),
+    ("nearest", "nearest", [("field", "field"), ("cut", "cut"), ("edges", "inside")], [(ELL, LAST, (FLAT,)), (ELL, LAST, (STEEP, FLAT))]),
+    ("nearest", "far_from", [("field", "field"), ("cut", "cut"), ("edges", "inside")], [(ELL, LAST, (FLAT,)), (ELL, LAST, (STEEP, FLAT))]),
+    ("nearest", "is_nearest", [("field", "field"), ("cut", "cut"), ("edges", "inside"), ("thing", "thing")],
+     [(ELL, LAST, (), LAST), (ELL, LAST, (FLAT,), None), (ELL, LAST, (STEEP, FLAT), LAST)]),
+    ("nearest", "arms_left", [("field", "field"), ("edges", "inside"), ("middle", "pair")],
+     [(ELL, (((0, 0), (1, 1)),), (2, 1)), (ELL, (STEEP, FLAT), (3, 3)), (ELL, (STEEP, FLAT), (2, 1))]),
+    ("nearest", "nearest_arm", [("field", "field"), ("edges", "inside"), ("middle", "pair"), ("arm", "late arm")],
+     [(ELL, (((0, 0), (1, 1)),), (2, 1), (4, 3)), (ELL, (STEEP, FLAT), (3, 3), None), (ELL, (STEEP, FLAT), (2, 1), (0, 1)),
+      (ELL, (STEEP, FLAT), (2, 1), (1, 0))]),
+    ("strips", "strip_field", [("strip", "strip")], [((2, 1),)]),
+    ("strips", "is_strip", [("thing", "thing")], [((2, 1),), (5,)]),
+    ("strips", "is_strip_row", [("thing", "thing")], [(ROW,), (5,)]),
+    ("strips", "strip_of", [("row", "row")], [(ROW,)]),
+    ("strips", "row_of", [("strip", "strip"), ("cut", "cut")], [((2, 1), (((0, 1), (1, 0)), ((0, 1), (2, 0))))]),
+    ("strips", "cut_of_row", [("row", "row")], [(ROW,)]),
+    ("strips", "many_rows", [("strip", "strip")], [((2, 1),), ((30, 28),)]),
+    ("strips", "rows_off", [("strip", "strip"), ("turns", "count")], [((3, 2), 3), ((2, 2), 99)]),
+    ("strips", "row_number", [("row", "row")], [(ROW,)]),
+    ("strips", "row_by_number", [("strip", "strip"), ("number", "count")], [((2, 1), 1), ((2, 1), 3)]),
+    ("strips", "row_steps", [("row", "row"), ("other", "row")], [(ROW, ROW_BACK), (ROW, ROW + ROW)]),
+    ("strips", "row_plan", [("row", "row"), ("other", "row")], [(ROW, ROW_BACK), (ROW, ROW)]),
+    ("strips", "row_behind", [("row", "row"), ("plan", "row plan")], [(ROW, ((2, 1), (1, 1))), (ROW, ((1, 1),)), (ROW, ())]),
+    ("strips", "middle_row", [("rows", "rows")], [((ROW, ROW_BACK, ("below", "above", "below")),), ((ROW,),)]),
 ]
 
 

@@ -15,6 +15,10 @@ SECTIONS = {
     "section_10": "allcuts",
     "section_11": "counting",
     "section_12": "turns",
+    "section_13": "fewest",
+    "section_14": "middles",
+    "section_15": "nearest",
+    "section_18": "strips",
 }
 
 

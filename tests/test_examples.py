@@ -1,5 +1,6 @@
 """Every example of the document, section by section: its value, or its error with what the error keeps."""
 
+import doctest
 import importlib
 import pathlib
 import unittest
@@ -52,6 +53,14 @@ class Examples(unittest.TestCase):
                     self.check_row(row, wanted, names)
                     done += 1
         self.assertGreater(done, 0)
+
+    def test_those_of_the_readme(self):
+        names = {}
+        examples = doctest.DocTestParser().get_examples((FOLDER.parent.parent / "README.md").read_text(encoding="ascii"))
+        self.assertGreater(len(examples), 5)
+        for example in examples:
+            with self.subTest(row=example.source):
+                self.check_row(example.source.strip(), example.want.strip() or None, names)
 
     def test_every_section_has_its_examples(self):
         self.assertEqual({path.stem for path in FOLDER.glob("section_*.txt")}, set(SECTIONS))

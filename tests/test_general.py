@@ -93,7 +93,7 @@ class WrongArguments(unittest.TestCase):
 
     def test_every_kind_but_texts_and_things_is_checked(self):
         kinds = {kind for _, _, told_arguments, _ in CALLS for _, kind in told_arguments}
-        self.assertEqual(kinds - set(WRONG_OF), {"text", "pieces", "piece", "number", "thing"})
+        self.assertEqual(kinds - set(WRONG_OF), {"text", "pieces", "piece", "number", "thing", "late arm"})
 
 
 if __name__ == "__main__":
