@@ -293,9 +293,10 @@ class Numbers(unittest.TestCase):
 class TooManyRests(unittest.TestCase):
     def test_from_5001_on(self):
         enough, walls = strip(32, 26), (((22, 1), (26, 0)), ((24, 1), (28, 0)))
-        self.assertEqual(counting.many_rests(enough, walls), 5000)
+        self.assertEqual((counting.many_rests(enough, walls), len(own_rests(enough, walls))), (5000, 5000))
         self.assertGreater(counting.many_cuts(enough, walls), 10 ** 12)
         over, more = strip(27, 30), (((23, 0), (25, 1)), ((26, 0), (29, 1)))
+        self.assertEqual(len(own_rests(over, more)), 5001)
         for function in (counting.many_rests, counting.many_cuts):
             with self.assertRaises(TooMany):
                 function(over, more)
