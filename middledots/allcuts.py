@@ -16,12 +16,22 @@ def without_rim(field, edges):
     return tuple([edge for edge in sorted(set(edges)) if edge not in rim])
 
 
+def has_all(field, cut, edges):
+    """Whether cut has all of edges, rim ones apart."""
+    return all([edge in cut for edge in without_rim(field, edges)])
+
+
+def cuts_with(field, edges):
+    """The list, ascending, of the CUTS that have all of edges, rim ones apart; TooMany() if there are too many."""
+    return cuts_among(lots_beside(field, edges), MOST_CUTS)
+
+
 def all_cuts(field, edges):
     """The list, ascending, of the CUTS that have all of edges, rim ones apart."""
     field = given_field(field)
     edges = given_edges_of(field, edges)
     check_crossing(edges)
-    return cuts_among(lots_beside(field, edges), MOST_CUTS)
+    return cuts_with(field, edges)
 
 
 def cuts_out_of(field, edges):
@@ -55,6 +65,6 @@ def digits_of(field, edges, cut):
     field = given_field(field)
     edges, cut = given_edges_of(field, edges), given_cut(field, cut)
     check_crossing(edges)
-    if not all([edge in cut for edge in without_rim(field, edges)]):
+    if not has_all(field, cut, edges):
         raise CanNot()
     return number_among(lots_beside(field, edges), cut)

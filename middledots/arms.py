@@ -101,9 +101,14 @@ def arm_between(arm, other, number):
     return arm_on(runs_between(arm, other), other, number)
 
 
+def are_near(arm, other):
+    """Whether both ARMS are neighbours."""
+    return abs(outer(arm, other)) == 2
+
+
 def are_neighbours(arm, other):
     """Whether both ARMS are neighbours."""
-    return abs(outer(given_arm(arm), given_arm(other))) == 2
+    return are_near(given_arm(arm), given_arm(other))
 
 
 def neighbours(arm, most):

@@ -4,9 +4,9 @@ from middledots.dots import area_round
 from middledots.edges import check_crossing, given_edges_of
 from middledots.errors import CanNot, NoMiddle, Unfit
 from middledots.fields import given_field, rim_round
-from middledots.given import fits_pair, given, given_all, given_pair
-from middledots.lots import chosen_among, lots_beside
-from middledots.nets import Net, ascends, fits_cut, given_cut
+from middledots.given import ascends, fits_pair, given, given_all, given_pair
+from middledots.lots import first_cut_with
+from middledots.nets import Net, fits_cut, given_cut
 
 
 def sides_round(triangle):
@@ -49,7 +49,7 @@ def completed(field, edges):
     field = given_field(field)
     edges = given_edges_of(field, edges)
     check_crossing(edges)
-    return chosen_among(lots_beside(field, edges), 0)
+    return first_cut_with(field, edges)
 
 
 def edge_in(field, cut, middle):

@@ -99,6 +99,12 @@ def arm_from(edge):
     return taken_off(high, low)
 
 
+def square_along(edge):
+    """The square of the length of edge."""
+    x, y = arm_from(edge)
+    return x * x + y * y
+
+
 def is_dot(thing):
     """Whether thing is a DOT."""
     return fits_pair(thing)

@@ -5,7 +5,7 @@ from math import gcd
 from middledots.dots import added, part_each_other, taken_off
 from middledots.errors import Crossing, NoMiddle, Unfit
 from middledots.fields import dots_of, given_field, half_place_among, middles_within, rim_round, sides_of
-from middledots.given import fits_middle, given_edge, given_edges, given_pair
+from middledots.given import fits_edges, fits_middle, given, given_edge, given_edges, given_pair
 
 
 def is_free(sides, low, high):
@@ -58,9 +58,29 @@ def first_pair(edges):
     return None
 
 
+def all_lie(field, edges):
+    """Whether all of edges lie in field."""
+    return all([lies_among(field, edge) for edge in edges])
+
+
+def stand_among(field, edges):
+    """Whether all of edges lie in field, and no two cross."""
+    return all_lie(field, edges) and first_pair(edges) is None
+
+
+def fits_held(field, thing):
+    """Whether thing is a set of EDGES that stand together in field."""
+    return fits_edges(thing) and stand_among(field, thing)
+
+
+def given_held(field, value):
+    """HELD EDGES of field."""
+    return given(value, 3, lambda own: fits_held(field, own))
+
+
 def check_inside(field, edges):
     """Unfit() if one of edges does not lie in field."""
-    if not all([lies_among(field, edge) for edge in edges]):
+    if not all_lie(field, edges):
         raise Unfit()
 
 
@@ -129,8 +149,7 @@ def first_crossing(edges):
 
 def stand_together(field, edges):
     """Whether all of edges lie in field, and no two cross."""
-    field, edges = given_field(field), given_edges(edges)
-    return all([lies_among(field, edge) for edge in edges]) and first_pair(edges) is None
+    return stand_among(given_field(field), given_edges(edges))
 
 
 def edges_beside(field, edges):

@@ -1,11 +1,11 @@
 """The fewest turns from one cut to another, and plans that do with them."""
 
 from middledots.arms import arms_along, steps_apart
-from middledots.dots import added, arm_from
+from middledots.dots import added, arm_from, square_along
 from middledots.errors import CanNot
 from middledots.fields import given_field
 from middledots.nets import Net, given_cut
-from middledots.turns import fits_plan, first_broken
+from middledots.turns import fits_plan, leads_to
 
 
 def arms_at(cut):
@@ -32,8 +32,40 @@ def in_one_alone(cut, other):
 
 def square_first(edge):
     """What EDGES are ordered by: the square of the length, then the EDGE."""
-    x, y = arm_from(edge)
-    return (x * x + y * y, edge)
+    return (square_along(edge), edge)
+
+
+def ways_between(cut, other):
+    """The WAYS of two CUTS of a field."""
+    return tuple([(middle, arms_along(arm, goal)) for middle, arm, goal in unlike_arms(cut, other)])
+
+
+def plan_between(field, cut, other):
+    """A PLAN that leads from cut to other with the fewest TURNS."""
+    near, far = Net(field, cut), Net(field, other)
+    ahead, back = [], []
+    apart = [share[0] for share in unlike_arms(cut, other)]
+    while apart:
+        # Of all unlike EDGES a longest one can be turned in its CUT, which then stands nearer.
+        low, high = max([edge for middle in apart for edge in (near.at[middle], far.at[middle])], key=square_first)
+        middle = added(low, high)
+        net, turns_done = (near, ahead) if near.at[middle] == (low, high) else (far, back)
+        net.turn(middle)
+        turns_done.append(middle)
+        if near.at[middle] == far.at[middle]:
+            apart.remove(middle)
+    return tuple(ahead + back[::-1])
+
+
+def first_turns_between(field, cut, other):
+    """The TURNS of cut, ascending, with which a PLAN to other with the fewest TURNS can begin."""
+    net = Net(field, cut)
+    found = []
+    for middle, arm, goal in unlike_arms(cut, other):
+        # A TURN leads to a neighbour of the ARM: nearer by one, or further by one.
+        if net.can_turn(middle) and steps_apart(arm_from(net.far_pair(middle)), goal) < steps_apart(arm, goal):
+            found.append(middle)
+    return tuple(found)
 
 
 def given_both(field, cut, other):
@@ -51,7 +83,7 @@ def fewest(field, cut, other):
 def ways(field, cut, other):
     """The WAYS of both CUTS."""
     field, cut, other = given_both(field, cut, other)
-    return tuple([(middle, arms_along(arm, goal)) for middle, arm, goal in unlike_arms(cut, other)])
+    return ways_between(cut, other)
 
 
 def shares(field, cut, other):
@@ -63,40 +95,19 @@ def shares(field, cut, other):
 def plan(field, cut, other):
     """A PLAN that leads from cut to other with the fewest TURNS."""
     field, cut, other = given_both(field, cut, other)
-    near, far = Net(field, cut), Net(field, other)
-    ahead, back = [], []
-    apart = [share[0] for share in unlike_arms(cut, other)]
-    while apart:
-        # Of all unlike EDGES a longest one can be turned in its CUT, which then stands nearer.
-        low, high = max([edge for middle in apart for edge in (near.at[middle], far.at[middle])], key=square_first)
-        middle = added(low, high)
-        net, turns_done = (near, ahead) if near.at[middle] == (low, high) else (far, back)
-        net.turn(middle)
-        turns_done.append(middle)
-        if near.at[middle] == far.at[middle]:
-            apart.remove(middle)
-    return tuple(ahead + back[::-1])
+    return plan_between(field, cut, other)
 
 
 def is_plan(field, cut, other, thing):
     """Whether thing is a PLAN that leads from cut to other with the fewest TURNS."""
     field, cut, other = given_both(field, cut, other)
-    if not fits_plan(thing) or len(thing) != fewest_between(cut, other):
-        return False
-    net = Net(field, cut)
-    return first_broken(net, thing) is None and net.cut() == other
+    return fits_plan(thing) and len(thing) == fewest_between(cut, other) and leads_to(field, cut, other, thing)
 
 
 def first_turns(field, cut, other):
     """The set of those TURNS of cut with which such a PLAN can begin."""
     field, cut, other = given_both(field, cut, other)
-    net = Net(field, cut)
-    found = []
-    for middle, arm, goal in unlike_arms(cut, other):
-        # A TURN leads to a neighbour of the ARM: nearer by one, or further by one.
-        if net.can_turn(middle) and steps_apart(arm_from(net.far_pair(middle)), goal) < steps_apart(arm, goal):
-            found.append(middle)
-    return tuple(found)
+    return first_turns_between(field, cut, other)
 
 
 def longest_unlike(field, cut, other):

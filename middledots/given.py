@@ -41,6 +41,16 @@ def fits_edge(thing):
     return fits_arm((far_x - x, far_y - y))
 
 
+def ascends(values):
+    """Whether each of the values is greater than the one ahead of it."""
+    return all([values[at - 1] < values[at] for at in range(1, len(values))])
+
+
+def fits_edges(thing):
+    """Whether thing is a set of EDGES."""
+    return isinstance(thing, tuple) and all([fits_edge(own) for own in thing]) and ascends(thing)
+
+
 def given(value, levels, fits):
     """value with tuples for lists, if it fits; else Unfit()."""
     own = tupled(value, levels)

@@ -1,6 +1,6 @@
 """Halves of the trees of arms, and the arms in the middle of many."""
 
-from middledots.arms import arm_between, mate_of, steps_apart
+from middledots.arms import are_near, arm_between, mate_of, steps_apart
 from middledots.dots import added, outer, parities, part_each_other, signed_arm, taken_off, times
 from middledots.errors import CanNot
 from middledots.given import given_arm, given_arms, given_edge
@@ -14,7 +14,7 @@ def check_kinds(arms):
 
 def base_between(arm, other):
     """The pairs u, w of which arm is u + w and other is u - w; CanNot() if both are no neighbours."""
-    if abs(outer(arm, other)) != 2:
+    if not are_near(arm, other):
         raise CanNot()
     (x, y), (less_x, less_y) = added(arm, other), taken_off(arm, other)
     return ((x // 2, y // 2), (less_x // 2, less_y // 2))

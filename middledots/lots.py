@@ -16,6 +16,12 @@ def lots_of(edges):
     return [lots[middle] for middle in sorted(lots)]
 
 
+def middle_at(lot):
+    """The MIDDLE at which the EDGES of lot are."""
+    low, high = lot[0]
+    return added(low, high)
+
+
 def lots_beside(field, edges):
     """For each MIDDLE of field, ascending, the list, ascending, of the EDGES that are free beside edges."""
     return lots_of(uncrossed(edges_among(field), edges))
@@ -39,13 +45,17 @@ def chosen_among(lots, number):
     return tuple(sorted(chosen))
 
 
+def first_cut_with(field, edges):
+    """The CUT with edges, rim ones apart, that has at each other MIDDLE in turn the least EDGE that can stand there."""
+    return chosen_among(lots_beside(field, edges), 0)
+
+
 def number_among(lots, cut):
     """The least number that tells this CUT so."""
     there = {added(low, high): (low, high) for low, high in cut}
     number, weight = 0, 1
     while lots:
-        low, high = lots[0][0]
-        edge = there[added(low, high)]
+        edge = there[middle_at(lots[0])]
         number += weight * lots[0].index(edge)
         weight *= len(lots[0])
         lots = lots_behind(lots, edge)

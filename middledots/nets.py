@@ -2,7 +2,7 @@
 
 from middledots.dots import added, told_edge, turn_at
 from middledots.fields import dots_round, numbers_of
-from middledots.given import fits_edge, given
+from middledots.given import fits_edges, given
 
 
 class Net:
@@ -78,16 +78,9 @@ def ways_round(field):
     return [(dots[at - 1], dots[at]) for at in range(len(dots))]
 
 
-def ascends(values):
-    """Whether each of the values is greater than the one ahead of it."""
-    return all([values[at - 1] < values[at] for at in range(1, len(values))])
-
-
 def fits_cut(field, thing):
     """Whether thing is a CUT of field."""
-    if not isinstance(thing, tuple) or len(thing) != numbers_of(field)[3]:
-        return False
-    if not all([fits_edge(own) for own in thing]) or not ascends(thing):
+    if not isinstance(thing, tuple) or len(thing) != numbers_of(field)[3] or not fits_edges(thing):
         return False
     net = Net(field, thing)
     return len(net.at) == len(thing) and net.covers()

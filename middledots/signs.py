@@ -28,14 +28,19 @@ def text_of(pieces):
     return "".join([" ".join(row) + "\n" for row in rows])
 
 
+def number_told(word, most):
+    """The number that word tells by at most so many figures, without a needless 0 ahead; None if it tells none."""
+    figures = word.removeprefix("-")
+    if not 1 <= len(figures) <= most or not all([sign in FIGURES for sign in figures]):
+        return None
+    if figures[0] == "0" and word != "0":
+        return None
+    return int(word)
+
+
 def number_of(piece):
     """The number that piece tells as a number piece; None if it is none."""
-    figures = piece.removeprefix("-")
-    if not 1 <= len(figures) <= MOST_FIGURES or not all([sign in FIGURES for sign in figures]):
-        return None
-    if figures[0] == "0" and piece != "0":
-        return None
-    return int(piece)
+    return number_told(piece, MOST_FIGURES)
 
 
 def piece_of(number):

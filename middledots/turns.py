@@ -26,6 +26,17 @@ def first_broken(net, plan):
     return None
 
 
+def leads_to(field, cut, other, plan):
+    """Whether plan, pairs of numbers, is a PLAN that leads from cut to other."""
+    net = Net(field, cut)
+    return first_broken(net, plan) is None and net.cut() == other
+
+
+def turns_of(net):
+    """The TURNS of the cut of net, ascending."""
+    return [middle for middle in sorted(net.at) if net.can_turn(middle)]
+
+
 def given_turn(field, cut, middle):
     """The net of this CUT, and the pair middle: NoMiddle(middle) if it is no MIDDLE of field, CanNot() if no TURN."""
     net, middle = given_net_at(field, cut, middle)
@@ -49,8 +60,7 @@ def can_turn(field, cut, middle):
 def turns(field, cut):
     """The set of all TURNS of cut."""
     field = given_field(field)
-    net = Net(field, given_cut(field, cut))
-    return tuple([middle for middle in sorted(net.at) if net.can_turn(middle)])
+    return tuple(turns_of(Net(field, given_cut(field, cut))))
 
 
 def turned(field, cut, middle):

@@ -3,7 +3,8 @@
 import importlib
 
 from tests.cutting import own_completed
-from tests.helpers import ELL, WRONG, WRONG_ARMS, WRONG_COUNTS, WRONG_EDGES, WRONG_FIELDS, WRONG_MIDDLES, WRONG_PAIRS, in_tuples
+from tests.helpers import (ELL, WRONG, WRONG_ARMS, WRONG_COUNTS, WRONG_EDGES, WRONG_FIELDS, WRONG_MIDDLES, WRONG_PAIRS, in_tuples,
+                           own_field)
 
 FLAT, STEEP, AFAR = ((0, 0), (2, 1)), ((1, 0), (1, 1)), ((7, 7), (8, 9))
 # CUTS of ELL, the triangles of the first one, the REST of it; a FIELD with too many CUTS and RESTS.
@@ -14,7 +15,11 @@ PARTS = (((0, 0), (0, 1), (1, 2)), ((0, 0), (1, 0), (2, 1)), ((0, 0), (1, 1), (1
          ((0, 1), (0, 2), (1, 2)), ((1, 0), (2, 0), (2, 1)))
 REST = ((0, 0), (1, 0), (2, 0), (2, 1), (1, 1), (1, 2), (0, 2), (0, 1))
 GREAT = ((0, 0), (6, 0), (6, 5), (0, 5))
+LARGE = ((0, 0), (36, 68), (1, 2))
 ROW, ROW_BACK = ("below", "below", "above"), ("above", "below", "below")
+SHEET = (ELL, (((-5, 3), (4, -4)), FLAT, STEEP), ((2, 1), (-7, 4), (2, 1)))
+SHEAR, SWAP = ((1, 0), (2, 1), (0, 3)), ((0, 1), (1, 0), (0, 0))
+RIM = ((0, 0), (0, 1))
 
 OUTSIDE = [AFAR, ((-1, 0), (0, 0)), ((0, -1), (1, 0)), ((6, 5), (7, 6))]
 WRONG_CUTS = in_tuples(WRONG_EDGES + OUTSIDE, CUT[0]) + [CUT[:-1] + (part,) for part in WRONG_EDGES + OUTSIDE + [CUT[0], FLAT]] + [
@@ -23,6 +28,13 @@ WRONG_TRIANGLES = WRONG_PAIRS + [part[::-1] for part in PARTS] + [PARTS[0][:2], 
                                  ((0, 0), (1, 0), (2, 2)), ((0, 0), (0, 0), (1, 1)), ((0, 0), (1, 0), (True, 1)), (1, 2, 3), "abc"]
 WRONG_RESTS = [own for own in WRONG_FIELDS if own != ((0, 0), (1, 0), (2, 0), (0, 1))] + [ELL, REST[::-1], REST[1:] + REST[:1]]
 WRONG_STRIPS = WRONG_PAIRS + [(0, 1), (1, 0), (-1, 2), (2, -5)]
+WRONG_SHEETS = WRONG_PAIRS + [SHEET[:2], SHEET + ((),), SHEET[::-1]] + [(own,) + SHEET[1:] for own in WRONG_FIELDS] + [
+    (ELL, own, ()) for own in in_tuples(WRONG_EDGES, FLAT) + [SHEET[1][::-1], SHEET[1] + SHEET[1][-1:]]] + [
+    (ELL, (), own) for own in in_tuples(WRONG_MIDDLES, (2, 1))]
+WRONG_HELD = in_tuples(WRONG_EDGES + OUTSIDE, CUT[0]) + [(FLAT, STEEP), (STEEP, RIM), (CUT[0], CUT[0]), CUT[::-1], CUT + CUT, [FLAT, CUT[0]]]
+WRONG_SHEARS = WRONG_PAIRS + [SHEAR[:2], SHEAR + ((0, 0),), ((1, 0), (1, 0), (0, 0)), ((2, 0), (0, 1), (0, 0)), ((0, 0), (0, 0), (0, 0)),
+                              ((1, 0), (0, -3), (1, 1)), ((1, 0), (0, 1), None), ((1, 0), (0, 1), (True, 0)), ((1, 0), (0, 1), 0),
+                              ((True, 0), (0, 1), (0, 0)), ((1, 0, 0), (0, 1, 0), (0, 0, 1)), ((1, 0), "ab", (0, 0)), ELL[:3]]
 WRONG_ROWS = WRONG + [7, (), [], ("below",), ("above", "above"), ROW + ("",), ROW + (None,), ROW + (True,), (ROW,), "below above"]
 
 
@@ -45,6 +57,9 @@ WRONG_OF = {
     "triangle": WRONG_TRIANGLES,
     "triangles": in_tuples(WRONG_TRIANGLES, PARTS[1]) + [PARTS[::-1], PARTS + PARTS[-1:], PARTS[:1] + PARTS],
     "rest": WRONG_RESTS,
+    "sheet": WRONG_SHEETS,
+    "held": WRONG_HELD,
+    "shear": WRONG_SHEARS,
     "strip": WRONG_STRIPS,
     "row": WRONG_ROWS,
     "rows": in_tuples(WRONG_ROWS, ROW) + [(ROW, ROW, part) for part in WRONG_ROWS] + [(), (ROW, ROW_BACK), (ROW, ROW, ROW + ROW)],
@@ -185,7 +200,71 @@ CALLS = [
     ("strips", "row_plan", [("row", "row"), ("other", "row")], [(ROW, ROW_BACK), (ROW, ROW)]),
     ("strips", "row_behind", [("row", "row"), ("plan", "row plan")], [(ROW, ((2, 1), (1, 1))), (ROW, ((1, 1),)), (ROW, ())]),
     ("strips", "middle_row", [("rows", "rows")], [((ROW, ROW_BACK, ("below", "above", "below")),), ((ROW,),)]),
+    ("texts", "is_sheet", [("thing", "thing")], [(SHEET,), (5,)]),
+    ("texts", "sheet_text", [("sheet", "sheet")], [(SHEET,), ((ELL, (), ()),)]),
+    ("texts", "read_sheet", [("text", "text")], [("field 0 0 1 0 0 1\nturn 1 1 # x",), ("\nfield 0",), ("",), ("field\n.",)]),
+    ("texts", "picture_text", [("field", "field"), ("edges", "held")], [(ELL, CUT), (ELL, (RIM,)), (ELL, ()), (LARGE, ())]),
+    ("held", "in_both", [("field", "field"), ("cut", "cut"), ("other", "cut")], [(ELL, CUT, LAST), (ELL, CUT, MILD)]),
+    ("held", "loose", [("field", "field"), ("held", "held")], [(ELL, (RIM, STEEP)), (ELL, ()), (ELL, CUT)]),
+    ("held", "turns_held", [("field", "field"), ("cut", "cut"), ("held", "held")],
+     [(ELL, CUT, (FLAT,)), (ELL, CUT, (STEEP,)), (ELL, LAST, ()), (ELL, LAST, (RIM, STEEP))]),
+    ("held", "fewest_held", [("field", "field"), ("cut", "cut"), ("other", "cut"), ("held", "held")],
+     [(ELL, CUT, MILD, CUT[:1]), (ELL, CUT, MILD, (FLAT,)), (ELL, MILD, CUT, (FLAT,)), (ELL, CUT, LAST, ())]),
+    ("held", "plan_held", [("field", "field"), ("cut", "cut"), ("other", "cut"), ("held", "held")],
+     [(ELL, CUT, MILD, CUT[:1]), (ELL, CUT, MILD, (FLAT,)), (ELL, CUT, LAST, ())]),
+    ("held", "is_held_plan", [("field", "field"), ("cut", "cut"), ("other", "cut"), ("held", "held"), ("thing", "thing")],
+     [(ELL, CUT, MILD, CUT[:1], ((2, 1), (1, 2))), (ELL, CUT, MILD, (FLAT,), ((2, 1), (1, 2))), (ELL, CUT, MILD, (), None)]),
+    ("held", "last_turns", [("field", "field"), ("cut", "cut"), ("other", "cut")], [(ELL, CUT, LAST), (ELL, CUT, CUT)]),
+    ("least", "squares", [("field", "field"), ("cut", "cut")], [(ELL, CUT), (ELL, LAST)]),
+    ("least", "shortening", [("field", "field"), ("cut", "cut")], [(ELL, CUT), (ELL, LAST)]),
+    ("least", "is_least", [("field", "field"), ("cut", "cut")], [(ELL, CUT), (ELL, LAST)]),
+    ("least", "way_down", [("field", "field"), ("cut", "cut")], [(ELL, CUT), (ELL, LAST)]),
+    ("least", "is_way_down", [("field", "field"), ("cut", "cut"), ("thing", "thing")],
+     [(ELL, CUT, ((1, 2), (2, 1))), (ELL, CUT, ()), (ELL, CUT, None)]),
+    ("least", "turns_down", [("field", "field"), ("cut", "cut")], [(ELL, CUT), (ELL, LAST)]),
+    ("least", "least_behind", [("field", "field"), ("cut", "cut")], [(ELL, CUT), (ELL, LAST)]),
+    ("least", "loose_middles", [("field", "field")], [(ELL,)]),
+    ("least", "many_least", [("field", "field")], [(ELL,)]),
+    ("least", "least_cuts", [("field", "field")], [(ELL,), (GREAT,)]),
+    ("least", "least_squares", [("field", "field")], [(ELL,)]),
+    ("alike", "sheared_dot", [("shear", "shear"), ("dot", "dot")], [(SHEAR, (1, 1)), (SWAP, (-4, 7))]),
+    ("alike", "sheared_middle", [("shear", "shear"), ("middle", "middle")], [(SHEAR, (2, 1)), (SWAP, (-4, 7))]),
+    ("alike", "sheared_edges", [("shear", "shear"), ("edges", "edges")], [(SHEAR, CUT), (SWAP, (STEEP, FLAT, STEEP)), (SWAP, ())]),
+    ("alike", "sheared_field", [("shear", "shear"), ("field", "field")], [(SHEAR, ELL), (SWAP, ELL)]),
+    ("alike", "back_shear", [("shear", "shear")], [(SHEAR,), (SWAP,)]),
+    ("alike", "both_shears", [("shear", "shear"), ("other_shear", "shear")], [(SHEAR, SWAP), (SWAP, SHEAR)]),
+    ("alike", "is_shear", [("thing", "thing")], [(SHEAR,), (5,)]),
+    ("alike", "keeps_turn", [("shear", "shear")], [(SHEAR,), (SWAP,)]),
+    ("alike", "alike", [("field", "field"), ("other", "field")], [(ELL, own_field([(2 * y - x, y + 4) for x, y in ELL])), (ELL, GREAT)]),
+    ("alike", "is_alike_by", [("field", "field"), ("other", "field"), ("thing", "thing")], [(ELL, ELL, SWAP), (ELL, ELL, SHEAR), (ELL, GREAT, 5)]),
+    ("alike", "all_alike", [("field", "field"), ("other", "field")], [(ELL, ELL), (ELL, GREAT)]),
 ]
+
+
+# The names that each module must have.
+
+INTERFACE = {module: names.split() for module, names in {
+    "errors": "NoDot NoEdge NoMiddle NothingDone BadText Broken CanNot Crossing TooMany Unfit",
+    "signs": "pieces text_of number_of piece_of",
+    "dots": "is_dot is_arm is_edge can_be_middle edge middle_of arm_of kind_of square_of edge_at cross side_of area_of edges_between",
+    "fields": "is_field field_of place_of half_place_of inner_dots rim_dots all_dots rim_edges middles numbers",
+    "arms": "are_neighbours neighbours elder root_of depth way length at_step",
+    "halves": "base_of is_in_half many_in_half sum_of_ways median halves",
+    "edges": "lies_in edges_in edges_at crossings first_crossing stand_together edges_beside most_at",
+    "cuts": "is_cut completed edge_in triangles far_dots three_sides cut_of",
+    "allcuts": "all_cuts cuts_out_of many_beside cut_by_digits digits_of",
+    "counting": "is_rest rest_of base_edge tips rests_behind many_cuts many_rests counts_at cut_number cut_by_number",
+    "turns": "new_edge can_turn turns turned behind cuts_along is_turned_by undone",
+    "fewest": "fewest ways shares plan is_plan first_turns longest_unlike",
+    "middles": "median_cut is_middle majority sum_to is_between between",
+    "nearest": "nearest far_from is_nearest arms_left nearest_arm",
+    "texts": "is_sheet sheet_text read_sheet picture_text",
+    "held": "in_both loose turns_held fewest_held plan_held is_held_plan last_turns",
+    "strips": "strip_field is_strip is_strip_row strip_of row_of cut_of_row many_rows rows_off row_number row_by_number row_steps row_plan row_behind"
+              " middle_row",
+    "least": "squares shortening is_least way_down is_way_down turns_down least_behind loose_middles many_least least_cuts least_squares",
+    "alike": "sheared_dot sheared_middle sheared_edges sheared_field back_shear both_shears is_shear keeps_turn alike is_alike_by all_alike",
+}.items()}
 
 
 def function_of(module, name):

@@ -18,7 +18,11 @@ SECTIONS = {
     "section_13": "fewest",
     "section_14": "middles",
     "section_15": "nearest",
+    "section_16": "texts",
+    "section_17": "held",
     "section_18": "strips",
+    "section_19": "least",
+    "section_20": "alike",
 }
 
 

@@ -4,7 +4,7 @@ import copy
 import inspect
 import unittest
 
-from tests.calls import CALLS, GREAT, WRONG_OF, function_of
+from tests.calls import CALLS, GREAT, INTERFACE, WRONG_OF, function_of
 from tests.helpers import listed, outcome, told
 
 UNFIT = ("error", "Unfit", {})
@@ -15,6 +15,11 @@ def every_call():
     for module, name, told_arguments, values in CALLS:
         for args in values:
             yield function_of(module, name), told_arguments, args
+
+
+def is_slow(args):
+    """Whether the FIELD with too many CUTS is among the arguments."""
+    return repr(GREAT) in repr(args)
 
 
 def kinds_to_list(told_arguments, args, mask):
@@ -30,6 +35,18 @@ class Interface(unittest.TestCase):
                 function = function_of(module, name)
                 self.assertEqual(function.__module__, "middledots." + module)
                 self.assertEqual(list(inspect.signature(function).parameters), [own for own, _ in told_arguments])
+                self.assertTrue(all(own.default is own.empty for own in inspect.signature(function).parameters.values()))
+
+    def test_every_name_can_be_imported_from_its_module(self):
+        for module, names in INTERFACE.items():
+            for name in names:
+                own = function_of(module, name)
+                self.assertEqual((own.__module__, own.__name__), ("middledots." + module, name))
+
+    def test_every_function_is_among_the_calls(self):
+        called = [(module, name) for module, name, _, _ in CALLS]
+        listed_ones = [(module, name) for module in INTERFACE for name in INTERFACE[module] if name[0].islower()]
+        self.assertEqual(sorted(called), sorted(listed_ones))
 
 
 class Arguments(unittest.TestCase):
@@ -42,7 +59,7 @@ class Arguments(unittest.TestCase):
     def test_lists_for_tuples_at_each_depth(self):
         for function, told_arguments, args in every_call():
             wanted = outcome(function, *args)
-            for mask in range(16) if GREAT not in args else (15,):
+            for mask in range(16) if not is_slow(args) else (15,):
                 with self.subTest(function=function.__name__, args=args, mask=mask):
                     own = kinds_to_list(told_arguments, args, mask)
                     names = {name: arg for (name, _), arg in zip(told_arguments, own)}
@@ -69,6 +86,13 @@ class Arguments(unittest.TestCase):
                     first.reverse()
                     self.assertEqual(outcome(function, *args), wanted)
 
+    def test_the_same_call_tells_the_same(self):
+        for function, told_arguments, args in every_call():
+            with self.subTest(function=function.__name__, args=args):
+                wanted = outcome(function, *args)
+                outcome(function, *kinds_to_list(told_arguments, args, 15))
+                self.assertEqual(outcome(function, *args), wanted)
+
     def test_no_list_within_what_is_told(self):
         def parts(value):
             return [inner for part in value[1] for inner in [part] + parts(part)] if value[0] in ("list", "tuple") else []
@@ -84,9 +108,13 @@ class Arguments(unittest.TestCase):
 
 class WrongArguments(unittest.TestCase):
     def test_unfit_ahead_of_all_for_each_wrong_argument(self):
+        asked = {}
         for function, told_arguments, args in every_call():
             for place, (name, kind) in enumerate(told_arguments):
-                for at, wrong in enumerate(WRONG_OF.get(kind, [])):
+                beside = (function, place, repr(args[:place] + args[place + 1:]))
+                # Once beside the same other arguments.
+                for at, wrong in enumerate(WRONG_OF.get(kind, []) if beside not in asked else []):
+                    asked[beside] = True
                     own = list(args)
                     own[place] = wrong
                     self.assertEqual(outcome(function, *own), UNFIT, (function.__name__, name, at))

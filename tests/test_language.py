@@ -95,7 +95,7 @@ class Language(unittest.TestCase):
                 if isinstance(node, ast.Expr):
                     self.assertIsInstance(node.value.value, str)
                 if isinstance(node, ast.Assign):
-                    ast.literal_eval(node.value)
+                    self.check_value(node.value, bound, path)
                     bound += [target.id for target in node.targets]
                 if isinstance(node, ast.ImportFrom):
                     bound += [name.name for name in node.names]
@@ -103,6 +103,13 @@ class Language(unittest.TestCase):
                     bound.append(node.name)
             self.assertEqual(len(bound), len(set(bound)), path)
             self.assertFalse(set(bound) & set(dir(builtins)), path)
+
+    def check_value(self, value, bound, path):
+        """A plain value, or a table of functions that stand above it."""
+        if isinstance(value, ast.Dict) and any(isinstance(own, ast.Name) for own in value.values):
+            self.assertTrue(all(isinstance(own, ast.Name) and own.id in bound for own in value.values), path)
+        else:
+            ast.literal_eval(value)
 
     def test_names(self):
         for path in FILES:
