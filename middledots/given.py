@@ -51,6 +51,18 @@ def fits_edges(thing):
     return isinstance(thing, tuple) and all([fits_edge(own) for own in thing]) and ascends(thing)
 
 
+def has_numbers_alone(thing):
+    """Whether thing is a number, or a tuple of such things."""
+    if isinstance(thing, tuple):
+        return all([has_numbers_alone(part) for part in thing])
+    return is_number(thing)
+
+
+def is_like(thing, value):
+    """Whether thing is value, a tuple made of numbers; True is no 1 there."""
+    return thing == value and has_numbers_alone(thing)
+
+
 def given(value, levels, fits):
     """value with tuples for lists, if it fits; else Unfit()."""
     own = tupled(value, levels)

@@ -20,6 +20,11 @@ ROW, ROW_BACK = ("below", "below", "above"), ("above", "below", "below")
 SHEET = (ELL, (((-5, 3), (4, -4)), FLAT, STEEP), ((2, 1), (-7, 4), (2, 1)))
 SHEAR, SWAP = ((1, 0), (2, 1), (0, 3)), ((0, 1), (1, 0), (0, 0))
 RIM = ((0, 0), (0, 1))
+# One DEMAND of each word that stands, and one that does not; one with too many CUTS.
+DEMANDS = [("stand", ELL, (STEEP,)), ("stand", ELL, (FLAT, STEEP)), ("fewest", ELL, CUT, MILD, 2), ("fewest", ELL, CUT, MILD, 1),
+           ("nearest", ELL, CUT, (STEEP,), CUT[:2] + (CUT[3], STEEP, CUT[4])), ("nearest", ELL, CUT, (), MILD),
+           ("sure", ((0, 0), (3, 0), (1, 2)), ((0, 0), (1, 1))), ("sure", ELL, FLAT), ("many", ELL, (FLAT,), 5), ("many", ELL, (), 0)]
+TOO_MANY = ("many", GREAT, (), 10 ** 9)
 
 OUTSIDE = [AFAR, ((-1, 0), (0, 0)), ((0, -1), (1, 0)), ((6, 5), (7, 6))]
 WRONG_CUTS = in_tuples(WRONG_EDGES + OUTSIDE, CUT[0]) + [CUT[:-1] + (part,) for part in WRONG_EDGES + OUTSIDE + [CUT[0], FLAT]] + [
@@ -35,6 +40,20 @@ WRONG_HELD = in_tuples(WRONG_EDGES + OUTSIDE, CUT[0]) + [(FLAT, STEEP), (STEEP, 
 WRONG_SHEARS = WRONG_PAIRS + [SHEAR[:2], SHEAR + ((0, 0),), ((1, 0), (1, 0), (0, 0)), ((2, 0), (0, 1), (0, 0)), ((0, 0), (0, 0), (0, 0)),
                               ((1, 0), (0, -3), (1, 1)), ((1, 0), (0, 1), None), ((1, 0), (0, 1), (True, 0)), ((1, 0), (0, 1), 0),
                               ((True, 0), (0, 1), (0, 0)), ((1, 0, 0), (0, 1, 0), (0, 0, 1)), ((1, 0), "ab", (0, 0)), ELL[:3]]
+WRONG_PATHS = in_tuples(WRONG_PAIRS, (0, 1)) + [(), ((0, 1),), ((0, 1), (0, 1)), RIM, ((0, 1), (1, 1), (1, 0)), ((1, 2), (2, 1)),
+                                                ((0, 0), (2, 2)), ((0, 2), (2, 0)), ((0, 1), (1, 0), (0, 1)), ((7, 7), (8, 9)), ELL,
+                                                ((0, 1), (1, 0), (2, 1))]
+WRONG_DEMANDS = WRONG_PAIRS + [own[:1] for own in DEMANDS] + [([own[0]],) + own[1:] for own in DEMANDS] + [
+    ({own[0]: 1},) + own[1:] for own in DEMANDS[::2]] + [own[1:] for own in DEMANDS] + [own + (0,) for own in DEMANDS] + [own[:-1] for own in DEMANDS] + [
+    ("",) + own[1:] for own in DEMANDS[::2]] + [(None,) + own[1:] for own in DEMANDS[::2]] + [
+    ((own[0],),) + own[1:] for own in DEMANDS[::2]] + [(own[0] + " ",) + own[1:] for own in DEMANDS[::2]] + [
+    (own[0], wrong) + own[2:] for own in DEMANDS[::2] for wrong in WRONG_FIELDS] + [
+    ("stand", ELL, wrong) for wrong in in_tuples(WRONG_EDGES, FLAT) + [(STEEP, FLAT), (FLAT, FLAT)]] + [
+    ("fewest", ELL, wrong, MILD, 9) for wrong in WRONG_CUTS] + [("fewest", ELL, CUT, wrong, 9) for wrong in WRONG_CUTS] + [
+    ("fewest", ELL, CUT, MILD, wrong) for wrong in WRONG_COUNTS] + [("nearest", ELL, wrong, (), MILD) for wrong in WRONG_CUTS] + [
+    ("nearest", ELL, CUT, wrong, CUT) for wrong in WRONG_HELD + [(STEEP,)]] + [("nearest", ELL, CUT, (), wrong) for wrong in WRONG_CUTS] + [
+    ("sure", ELL, wrong) for wrong in WRONG_EDGES + OUTSIDE + [RIM, (FLAT,)]] + [("many", ELL, wrong, 3) for wrong in WRONG_HELD] + [
+    ("many", ELL, (), wrong) for wrong in WRONG_COUNTS]
 WRONG_ROWS = WRONG + [7, (), [], ("below",), ("above", "above"), ROW + ("",), ROW + (None,), ROW + (True,), (ROW,), "below above"]
 
 
@@ -51,6 +70,7 @@ WRONG_OF = {
     "arms": in_tuples(WRONG_ARMS, (1, 0)) + [(), []],
     "inside": in_tuples(WRONG_EDGES + OUTSIDE, CUT[0]),
     "cut": WRONG_CUTS,
+    "far cut": [own for own in WRONG_CUTS if own != ()] + [CUT],
     "cuts": in_tuples(WRONG_CUTS, CUT) + [(CUT, MILD, part) for part in WRONG_CUTS] + [(), (CUT, MILD), [CUT] * 4],
     "plan": in_tuples(WRONG_PAIRS, (1, 1)),
     "row plan": in_tuples(WRONG_MIDDLES, (1, 1)),
@@ -60,6 +80,9 @@ WRONG_OF = {
     "sheet": WRONG_SHEETS,
     "held": WRONG_HELD,
     "shear": WRONG_SHEARS,
+    "path": WRONG_PATHS,
+    "demand": WRONG_DEMANDS,
+    "demands": in_tuples(WRONG_DEMANDS[::7] + [None, (), 5], DEMANDS[0]),
     "strip": WRONG_STRIPS,
     "row": WRONG_ROWS,
     "rows": in_tuples(WRONG_ROWS, ROW) + [(ROW, ROW, part) for part in WRONG_ROWS] + [(), (ROW, ROW_BACK), (ROW, ROW, ROW + ROW)],
@@ -238,6 +261,33 @@ CALLS = [
     ("alike", "alike", [("field", "field"), ("other", "field")], [(ELL, own_field([(2 * y - x, y + 4) for x, y in ELL])), (ELL, GREAT)]),
     ("alike", "is_alike_by", [("field", "field"), ("other", "field"), ("thing", "thing")], [(ELL, ELL, SWAP), (ELL, ELL, SHEAR), (ELL, GREAT, 5)]),
     ("alike", "all_alike", [("field", "field"), ("other", "field")], [(ELL, ELL), (ELL, GREAT)]),
+    ("sure", "lots", [("field", "field"), ("edges", "held")], [(ELL, (FLAT,)), (ELL, (RIM,)), (ELL, ())]),
+    ("sure", "sure_edges", [("field", "field"), ("edges", "held")], [(ELL, (FLAT,)), (ELL, ())]),
+    ("sure", "is_sure", [("field", "field"), ("edges", "held"), ("edge", "edge")], [(ELL, (FLAT,), FLAT), (ELL, (), STEEP), (ELL, (), AFAR)]),
+    ("sure", "other_edge", [("field", "field"), ("edges", "held"), ("edge", "edge")],
+     [(ELL, (), FLAT), (ELL, (FLAT,), STEEP), (ELL, (FLAT,), FLAT), (ELL, (), AFAR)]),
+    ("sure", "is_other_edge", [("field", "field"), ("edges", "held"), ("edge", "edge"), ("thing", "thing")],
+     [(ELL, (), FLAT, STEEP), (ELL, (FLAT,), STEEP, FLAT), (ELL, (FLAT,), FLAT, None)]),
+    ("sure", "lot_way", [("field", "field"), ("edges", "held"), ("edge", "edge"), ("other", "edge")],
+     [(ELL, (), FLAT, ((0, 1), (2, 0))), (ELL, (), FLAT, CUT[0]), (ELL, (FLAT,), FLAT, FLAT), (ELL, (FLAT,), FLAT, STEEP)]),
+    ("sure", "spread", [("field", "field"), ("edges", "held")], [(ELL, (FLAT,)), (ELL, ())]),
+    ("sure", "no_further", [("field", "field"), ("edges", "held")], [(ELL, (FLAT,)), (ELL, ())]),
+    ("judge", "is_demand", [("thing", "thing")], [(own,) for own in DEMANDS] + [(None,)]),
+    ("judge", "is_so", [("demand", "demand")], [(own,) for own in DEMANDS + [TOO_MANY]]),
+    ("judge", "paper_against", [("demand", "demand")], [(own,) for own in DEMANDS + [TOO_MANY]]),
+    ("judge", "is_paper_against", [("demand", "demand"), ("thing", "thing")],
+     [(DEMANDS[1], (FLAT, STEEP)), (DEMANDS[0], (STEEP,)), (DEMANDS[7], MILD), (TOO_MANY, None)]),
+    ("judge", "reason_for", [("demand", "demand")], [(own,) for own in DEMANDS + [TOO_MANY]]),
+    ("judge", "is_reason_for", [("demand", "demand"), ("thing", "thing")],
+     [(DEMANDS[0], MILD), (DEMANDS[2], ((2, 1), (1, 2))), (DEMANDS[1], CUT), (TOO_MANY, None)]),
+    ("judge", "first_fallen", [("demands", "demands")], [(DEMANDS,), (DEMANDS[::2],), ((),), ((DEMANDS[0], TOO_MANY),)]),
+    ("joins", "is_path", [("field", "field"), ("thing", "thing")], [(ELL, ((0, 1), (1, 0))), (ELL, None)]),
+    ("joins", "short_paths", [("field", "field")], [(ELL,)]),
+    ("joins", "parted", [("field", "field"), ("dots", "path")], [(ELL, ((0, 1), (1, 0))), (ELL, FLAT[::-1])]),
+    ("joins", "cut_parted", [("field", "field"), ("dots", "path"), ("cut", "cut")], [(ELL, FLAT, CUT), (ELL, FLAT, MILD)]),
+    ("joins", "put_together", [("field", "field"), ("other", "field")], [(ELL, ((1, 1), (2, 1), (1, 2))), (ELL, ELL)]),
+    ("joins", "cuts_together", [("field", "field"), ("cut", "cut"), ("other", "field"), ("far", "far cut")],
+     [(ELL, CUT, ((1, 1), (2, 1), (1, 2)), ()), (ELL, CUT, ((5, 5), (6, 5), (5, 6)), ())]),
 ]
 
 
@@ -264,6 +314,10 @@ INTERFACE = {module: names.split() for module, names in {
               " middle_row",
     "least": "squares shortening is_least way_down is_way_down turns_down least_behind loose_middles many_least least_cuts least_squares",
     "alike": "sheared_dot sheared_middle sheared_edges sheared_field back_shear both_shears is_shear keeps_turn alike is_alike_by all_alike",
+    "sure": "lots sure_edges is_sure other_edge is_other_edge lot_way spread no_further",
+    "judge": "is_demand is_so paper_against is_paper_against reason_for is_reason_for first_fallen",
+    "joins": "is_path short_paths parted cut_parted put_together cuts_together",
+    "desk": "Desk",
 }.items()}
 
 

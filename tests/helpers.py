@@ -23,6 +23,10 @@ SECTIONS = {
     "section_18": "strips",
     "section_19": "least",
     "section_20": "alike",
+    "section_21": "sure",
+    "section_22": "judge",
+    "section_23": "joins",
+    "section_24": "desk",
 }
 
 

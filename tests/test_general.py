@@ -59,7 +59,8 @@ class Arguments(unittest.TestCase):
     def test_lists_for_tuples_at_each_depth(self):
         for function, told_arguments, args in every_call():
             wanted = outcome(function, *args)
-            for mask in range(16) if not is_slow(args) else (15,):
+            depths = 5 if "demands" in [kind for _, kind in told_arguments] else 4
+            for mask in range(2 ** depths) if not is_slow(args) else (31,):
                 with self.subTest(function=function.__name__, args=args, mask=mask):
                     own = kinds_to_list(told_arguments, args, mask)
                     names = {name: arg for (name, _), arg in zip(told_arguments, own)}

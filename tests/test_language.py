@@ -16,8 +16,12 @@ METHODS = set("""append clear copy count endswith extend find get index insert i
                  items join keys ljust lower lstrip partition pop remove replace reverse rfind rjust rpartition rsplit rstrip
                  setdefault split splitlines startswith strip update upper values zfill bit_length removeprefix removesuffix
                  add discard""".split())
+JUDGED = set("stands paper is_paper reason is_reason".split())
 OWN_METHODS = {"Net": set("tie untie thirds far_pair can_turn turn cut turn_signs covers triangles".split()),
-               "Rests": set("lie dots_near steps_from coming".split())}
+               "Rests": set("lie dots_near steps_from coming".split()),
+               "Stand": JUDGED, "Fewest": JUDGED, "Nearest": JUDGED, "Sure": JUDGED, "Many": JUDGED,
+               "Board": set("state answer change".split()),
+               "Desk": set("say field cut first held undo redo twin __eq__".split())}
 BARRED = {"register", "mro", "elements", "open", "input", "law", "version_info", "with_traceback", "add_note"}
 STATEMENTS = (ast.FunctionDef, ast.ClassDef, ast.Assign, ast.AugAssign, ast.Return, ast.If, ast.While, ast.For, ast.Break,
               ast.Continue, ast.Pass, ast.Raise, ast.Assert, ast.Delete, ast.Expr, ast.Try, ast.ImportFrom)
